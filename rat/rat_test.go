@@ -206,6 +206,9 @@ func TestMake(t *testing.T) {
 			}
 		}
 	})
+	if a, e := rat.Make(whole.Of(6), whole.Of(-4)); a != ratOf(big.NewRat(-3, 2)) || e != api.OK {
+		t.Errorf("P3.2: Make of 6, -4: %v, error %d", a, e)
+	}
 	twelve := api.Int{Mag: api.Nat("\x0c" + strings.Repeat("\x00", 7999))}
 	if a, e := rat.Make(twelve, api.Int{Neg: true, Mag: twelve.Mag[:7999]}); a != rat.Of(-256) || e != api.OK {
 		t.Errorf("P3.2: 8000 bytes: %v, error %d", a, e)
