@@ -48,6 +48,9 @@ func Mul(a api.Int, b api.Int) api.Int {
 func Over(n api.Int, dens ...api.Nat) api.Rat {
 	den := one
 	for _, d := range dens {
+		if d == one {
+			continue
+		}
 		_, rest := divide(n.Mag, d)
 		common, _ := whole.Gcd(api.Int{Mag: rest}, api.Int{Mag: d})
 		if common.Mag != one {
@@ -95,10 +98,13 @@ func sub(a api.Nat, b api.Nat) api.Nat {
 	return join(high, sub(lowA, lowB), piece)
 }
 
-// mul is the product of two Nats.
+// mul is the product of two Nats. A factor 1 is frequent (it is the denominator of every whole number), and costs nothing.
 func mul(a api.Nat, b api.Nat) api.Nat {
 	if len(a) < len(b) {
 		a, b = b, a
+	}
+	if b == one {
+		return a
 	}
 	if len(a) <= most {
 		out, _ := whole.Mul(api.Int{Mag: a}, api.Int{Mag: b})

@@ -1,0 +1,70 @@
+// Package span holds what the layers from geom on ask of points: whether they may be asked (chapter 5 of the document), and the ways from one to another as whole numbers over one denominator. Products of such ways are whole numbers, of which a sign is told, and a quotient made, without asking for lowest terms on the way.
+package span
+
+import (
+	"gusset/api"
+	"gusset/vec"
+)
+
+// maxBytes is how many bytes each Mag and Den of a point may have that is asked.
+const maxBytes = 100
+
+// Check tells the error of the first point that may not be asked.
+func Check(l ...api.Point) api.Errno {
+	for _, p := range l {
+		if tooLong(p.X.Num.Mag, p.X.Den, p.Y.Num.Mag, p.Y.Den) {
+			return api.ErrLimit
+		}
+		if e := vec.Check(p); e != api.OK {
+			return e
+		}
+	}
+	return api.OK
+}
+
+// tooLong tells whether one of the Nats has more bytes than may be asked.
+func tooLong(l ...api.Nat) bool {
+	for _, n := range l {
+		if len(n) > maxBytes {
+			return true
+		}
+	}
+	return false
+}
+
+// Span is the way from one point to another: X and Y of it, both divided by Unit, which is above 0.
+type Span struct {
+	X    Number
+	Y    Number
+	Unit Number
+}
+
+// Of is the way from a to b, which may be asked.
+func Of(a api.Point, b api.Point) Span {
+	x, unitX := less(b.X, a.X)
+	y, unitY := less(b.Y, a.Y)
+	if unitX.same(unitY) {
+		return Span{x, y, unitX}
+	}
+	return Span{x.Times(unitY), y.Times(unitX), unitX.Times(unitY)}
+}
+
+// less is a less b, and by what it is to be divided.
+func less(a api.Rat, b api.Rat) (Number, Number) {
+	overA, overB := numberOf(a.Num), numberOf(b.Num)
+	unitA := numberOf(api.Int{Mag: a.Den})
+	if a.Den == b.Den {
+		return overA.Minus(overB), unitA
+	}
+	unitB := numberOf(api.Int{Mag: b.Den})
+	return overA.Times(unitB).Minus(overB.Times(unitA)), unitA.Times(unitB)
+}
+
+// Cross is vec.Cross of both, times both units.
+func (u Span) Cross(v Span) Number { return u.X.Times(v.Y).Minus(u.Y.Times(v.X)) }
+
+// Dot is vec.Dot of both, times both units.
+func (u Span) Dot(v Span) Number { return u.X.Times(v.X).Plus(u.Y.Times(v.Y)) }
+
+// Square is Dot of a way and itself.
+func (u Span) Square() Number { return u.Dot(u) }
