@@ -3,18 +3,37 @@ package span
 import (
 	"gusset/api"
 	"gusset/limb"
+	"gusset/long"
+	"gusset/whole"
 )
 
-// Number is a whole number as its limbs, trimmed: so it goes from one product into the next without being told and read again. What is made of points that may be asked, by a few products, is far shorter than what package limb takes, whose errors are therefore none here.
+// Number is a whole number as its limbs, trimmed: so it goes from one product into the next without being told and read again. What is made of numbers that may be asked, by a few products, is far shorter than what package limb takes, whose errors are therefore none here.
 type Number struct {
 	neg bool
 	row []uint64
 }
 
-// numberOf reads a number that may be.
-func numberOf(a api.Int) Number {
+// NumberOf reads a number that may be.
+func NumberOf(a api.Int) Number {
 	row, _ := limb.Of(a.Mag)
 	return Number{a.Neg, row}
+}
+
+// Shared is numbers that may be asked, each times the least unit that makes all of them whole; and that unit.
+func Shared(l ...api.Rat) ([]Number, Number) {
+	unit := whole.Of(1)
+	for _, a := range l {
+		den := api.Int{Mag: a.Den}
+		common, _ := whole.Gcd(unit, den)
+		missing, _, _ := whole.Div(den, common)
+		unit, _ = whole.Mul(unit, missing)
+	}
+	out := make([]Number, len(l))
+	for i, a := range l {
+		factor, _, _ := whole.Div(unit, api.Int{Mag: a.Den})
+		out[i] = NumberOf(a.Num).Times(NumberOf(factor))
+	}
+	return out, NumberOf(unit)
 }
 
 // Int is the number in its one form.
@@ -70,4 +89,13 @@ func (a Number) Times(b Number) Number {
 	}
 	row, _ := limb.Mul(a.row, b.row)
 	return Number{a.neg != b.neg, row}
+}
+
+// Over is a number divided by all of dens, none of which is 0. Their signs are left out: one that may have any comes twice.
+func (a Number) Over(dens ...Number) api.Rat {
+	under := make([]api.Nat, len(dens))
+	for i, d := range dens {
+		under[i] = d.Int().Mag
+	}
+	return long.Over(a.Int(), under...)
 }

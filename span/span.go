@@ -1,12 +1,13 @@
-// Package span holds what the layers from geom on ask of points: whether they may be asked (chapter 5 of the document), and the ways from one to another as whole numbers over one denominator. Products of such ways are whole numbers, of which a sign is told, and a quotient made, without asking for lowest terms on the way.
+// Package span holds what the layers from geom on ask of points and their numbers: whether they may be asked (chapters 5 and 7 of the document), and the ways from one to another as whole numbers over one denominator. Products of such ways are whole numbers, of which a sign is told, and a quotient made, without asking for lowest terms on the way.
 package span
 
 import (
 	"gusset/api"
+	"gusset/rat"
 	"gusset/vec"
 )
 
-// maxBytes is how many bytes each Mag and Den of a point may have that is asked.
+// maxBytes is how many bytes each Mag and Den of a number may have that is asked.
 const maxBytes = 100
 
 // Check tells the error of the first point that may not be asked.
@@ -16,6 +17,19 @@ func Check(l ...api.Point) api.Errno {
 			return api.ErrLimit
 		}
 		if e := vec.Check(p); e != api.OK {
+			return e
+		}
+	}
+	return api.OK
+}
+
+// CheckNumbers tells the error of the first number that may not be asked. It goes number by number: here a length goes ahead of that number's own faults alone, where Check lets it go ahead of those of the point's other number, too.
+func CheckNumbers(l ...api.Rat) api.Errno {
+	for _, a := range l {
+		if tooLong(a.Num.Mag, a.Den) {
+			return api.ErrLimit
+		}
+		if e := rat.Check(a); e != api.OK {
 			return e
 		}
 	}
@@ -51,12 +65,12 @@ func Of(a api.Point, b api.Point) Span {
 
 // less is a less b, and by what it is to be divided.
 func less(a api.Rat, b api.Rat) (Number, Number) {
-	overA, overB := numberOf(a.Num), numberOf(b.Num)
-	unitA := numberOf(api.Int{Mag: a.Den})
+	overA, overB := NumberOf(a.Num), NumberOf(b.Num)
+	unitA := NumberOf(api.Int{Mag: a.Den})
 	if a.Den == b.Den {
 		return overA.Minus(overB), unitA
 	}
-	unitB := numberOf(api.Int{Mag: b.Den})
+	unitB := NumberOf(api.Int{Mag: b.Den})
 	return overA.Times(unitB).Minus(overB.Times(unitA)), unitA.Times(unitB)
 }
 

@@ -155,3 +155,74 @@ func TestCheck(t *testing.T) {
 		t.Errorf("no point: error %d", e)
 	}
 }
+
+// TestCheckNumbers holds that numbers are gone through one by one: a length counts ahead of its own number's faults alone.
+func TestCheckNumbers(t *testing.T) {
+	nat := func(n int) api.Nat { return api.Nat(strings.Repeat("\x01", n)) }
+	good, wrong := rat.Of(-3), api.Rat{Num: whole.Of(2), Den: "\x04"}
+	for i, c := range []struct {
+		a api.Rat
+		e api.Errno
+	}{
+		{rat.Of(0), api.OK}, {api.Rat{Num: api.Int{Mag: nat(100)}, Den: "\x01"}, api.OK}, {api.Rat{Num: whole.Of(1), Den: nat(100)}, api.OK},
+		{api.Rat{Num: api.Int{Mag: nat(101)}, Den: "\x01"}, api.ErrLimit}, {api.Rat{Num: whole.Of(1), Den: nat(101)}, api.ErrLimit},
+		{api.Rat{Num: api.Int{Mag: "\x00" + nat(100)}, Den: "\x01"}, api.ErrLimit}, {api.Rat{Num: api.Int{Mag: nat(101)}, Den: nat(101)}, api.ErrLimit},
+		{wrong, api.ErrArg}, {api.Rat{}, api.ErrArg}, {api.Rat{Num: api.Int{Neg: true}, Den: "\x01"}, api.ErrArg},
+	} {
+		first, second := span.CheckNumbers(c.a, good), span.CheckNumbers(good, c.a)
+		if first != c.e || second != c.e {
+			t.Errorf("P7.1: case %d: errors %d, %d", i, first, second)
+		}
+		if e := span.CheckNumbers(good, c.a, wrong, api.Rat{Num: api.Int{Mag: nat(101)}, Den: "\x01"}); c.e != api.OK && e != c.e || c.e == api.OK && e != api.ErrArg {
+			t.Errorf("P7.1: case %d, ahead of others: error %d", i, e)
+		}
+		if e := span.CheckNumbers(wrong, c.a); e != api.ErrArg {
+			t.Errorf("P7.1: case %d, behind another: error %d", i, e)
+		}
+	}
+	if e := span.CheckNumbers(); e != api.OK {
+		t.Errorf("no number: error %d", e)
+	}
+}
+
+// TestShared holds that numbers are made whole by the least unit that does it.
+func TestShared(t *testing.T) {
+	r := rand.New(rand.NewPCG(23, 24))
+	for i := range 300 {
+		n, common := 1+i%100, big.NewInt(int64(1+r.IntN(60)))
+		given, numbers, least := make([]*big.Rat, i%7), make([]api.Rat, i%7), big.NewInt(1)
+		for k := range given {
+			given[k] = fraction(r, n, common)
+			numbers[k] = ratOf(given[k])
+			under := given[k].Denom()
+			least.Mul(least, new(big.Int).Quo(under, new(big.Int).GCD(nil, nil, least, under)))
+		}
+		l, unit := span.Shared(numbers...)
+		if len(l) != len(given) || intOf(unit).Cmp(least) != 0 {
+			t.Fatalf("case %d: %d numbers, the unit %v, not %v", i, len(l), intOf(unit), least)
+		}
+		for k, a := range l {
+			if quotient(a, unit).Cmp(given[k]) != 0 || a.Over(unit) != numbers[k] {
+				t.Errorf("case %d: %v is %v over %v", i, given[k], intOf(a), intOf(unit))
+			}
+		}
+	}
+}
+
+// TestOver divides by many numbers, with much in common, of either sign, which is left out.
+func TestOver(t *testing.T) {
+	r := rand.New(rand.NewPCG(25, 26))
+	for i := range 300 {
+		x := big.NewInt(r.Int64N(2000) - 1000)
+		dens, product := []span.Number(nil), big.NewInt(1)
+		for range i % 5 {
+			d := 1 + r.IntN(50)
+			product.Mul(product, big.NewInt(int64(d)))
+			dens = append(dens, span.NumberOf(whole.Of(d*(1-2*r.IntN(2)))))
+		}
+		a := span.NumberOf(api.Int{Neg: x.Sign() < 0, Mag: api.Nat(x.Bytes())})
+		if got := a.Over(dens...); got != ratOf(new(big.Rat).SetFrac(x, product)) {
+			t.Errorf("%v over %v: %#v", x, product, got)
+		}
+	}
+}
