@@ -82,3 +82,6 @@ func (u Span) Dot(v Span) Number { return u.X.Times(v.X).Plus(u.Y.Times(v.Y)) }
 
 // Square is Dot of a way and itself.
 func (u Span) Square() Number { return u.Dot(u) }
+
+// Turn is how three points turn, which may be asked: 1 to the left, -1 to the right, 0 if they lie in a line.
+func Turn(a api.Point, b api.Point, c api.Point) int { return Of(a, b).Cross(Of(a, c)).Sign() }

@@ -75,6 +75,9 @@ func TestWays(t *testing.T) {
 		if u.Unit.Sign() != 1 || quotient(u.X, u.Unit).Cmp(ux) != 0 || quotient(u.Y, u.Unit).Cmp(uy) != 0 {
 			t.Fatalf("case %d: the way of %v, %v to %v, %v", i, l[0], l[1], l[2], l[3])
 		}
+		if turn := span.Turn(point(0), point(2), point(4)); turn != minus(times(ux, minus(l[5], l[1])), times(uy, minus(l[4], l[0]))).Sign() {
+			t.Errorf("case %d: Turn: %d", i, turn)
+		}
 		if quotient(u.Cross(v), u.Unit, v.Unit).Cmp(minus(times(ux, vy), times(uy, vx))) != 0 {
 			t.Errorf("case %d: Cross", i)
 		}
