@@ -62,6 +62,9 @@ func (a Number) same(b Number) bool {
 	return order == 0
 }
 
+// Size is a number without its sign.
+func (a Number) Size() Number { return Number{row: a.row} }
+
 // Plus is the sum of two: of unlike signs the lesser is taken from the greater.
 func (a Number) Plus(b Number) Number {
 	if a.neg == b.neg {

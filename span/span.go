@@ -85,3 +85,27 @@ func (u Span) Square() Number { return u.Dot(u) }
 
 // Turn is how three points turn, which may be asked: 1 to the left, -1 to the right, 0 if they lie in a line.
 func Turn(a api.Point, b api.Point, c api.Point) int { return Of(a, b).Cross(Of(a, c)).Sign() }
+
+// Circle is where a fourth point lies, if three turn to the left, and all may be asked: 1 within their circle, 0 on it, -1 outside. If each point is lifted as high as its way from d is long, squared, a circle becomes a plane, and what lies within it lies below that plane.
+func Circle(a api.Point, b api.Point, c api.Point, d api.Point) int {
+	u, highU := lifted(Of(d, a))
+	v, highV := lifted(Of(d, b))
+	w, highW := lifted(Of(d, c))
+	sum := highU.Times(v.Cross(w)).Plus(highV.Times(w.Cross(u))).Plus(highW.Times(u.Cross(v)))
+	return sum.Sign()
+}
+
+// lifted is a way and its height, both times the unit's square, for a height is measured in those.
+func lifted(u Span) (Span, Number) {
+	return Span{X: u.X.Times(u.Unit), Y: u.Y.Times(u.Unit)}, u.Square()
+}
+
+// Order is that of two points which may be asked, by X, and by Y where that is the same.
+func Order(a api.Point, b api.Point) int {
+	x, _ := less(a.X, b.X)
+	if sign := x.Sign(); sign != 0 {
+		return sign
+	}
+	y, _ := less(a.Y, b.Y)
+	return y.Sign()
+}

@@ -90,6 +90,48 @@ func TestWays(t *testing.T) {
 	}
 }
 
+// TestCircle holds circles against their centres, and the order of points against that of their numbers.
+func TestCircle(t *testing.T) {
+	r := rand.New(rand.NewPCG(23, 24))
+	asked := [3]int{}
+	for i := range 300 {
+		l := make([]*big.Rat, 8)
+		for k := range l {
+			l[k] = fraction(r, 1+i%12, big.NewInt(1))
+			if i < 200 { // a small grid, where many lie on circles, and have the same X
+				l[k] = big.NewRat(int64(r.IntN(5)), int64(1+i%3))
+			}
+		}
+		point := func(k int) api.Point { return api.Point{X: ratOf(l[2*k]), Y: ratOf(l[2*k+1])} }
+		order := l[0].Cmp(l[2])
+		if order == 0 {
+			order = l[1].Cmp(l[3])
+		}
+		if got := span.Order(point(0), point(1)); got != order {
+			t.Errorf("case %d: Order: %d", i, got)
+		}
+		if span.Turn(point(0), point(1), point(2)) <= 0 {
+			continue
+		}
+		way := func(k int) (*big.Rat, *big.Rat) { return minus(l[2*k], l[0]), minus(l[2*k+1], l[1]) } // from the first
+		bx, by := way(1)
+		cx, cy := way(2)
+		dx, dy := way(3)
+		b2, c2 := plus(times(bx, bx), times(by, by)), plus(times(cx, cx), times(cy, cy))
+		under := times(big.NewRat(2, 1), minus(times(bx, cy), times(by, cx)))
+		x, y := new(big.Rat).Quo(minus(times(cy, b2), times(by, c2)), under), new(big.Rat).Quo(minus(times(bx, c2), times(cx, b2)), under)
+		farX, farY := minus(dx, x), minus(dy, y)
+		want := plus(times(x, x), times(y, y)).Cmp(plus(times(farX, farX), times(farY, farY)))
+		if got := span.Circle(point(0), point(1), point(2), point(3)); got != want {
+			t.Errorf("case %d: Circle: %d, not %d", i, got, want)
+		}
+		asked[want+1]++
+	}
+	if min(asked[0], asked[1], asked[2]) < 10 {
+		t.Errorf("outside, on and within: %v", asked)
+	}
+}
+
 // TestShort holds that denominators that are the same are not multiplied: so numbers stay short.
 func TestShort(t *testing.T) {
 	third := func(n int) api.Rat { return api.Rat{Num: whole.Of(n), Den: "\x03"} }
@@ -108,7 +150,7 @@ func TestNumbers(t *testing.T) {
 	}
 	for _, x := range l {
 		a := number(x)
-		if intOf(a).Cmp(x) != 0 || a.Sign() != x.Sign() {
+		if intOf(a).Cmp(x) != 0 || a.Sign() != x.Sign() || intOf(a.Size()).Cmp(new(big.Int).Abs(x)) != 0 {
 			t.Errorf("%v is %#v, of sign %d", x, a.Int(), a.Sign())
 		}
 		for _, y := range l {
