@@ -7,7 +7,6 @@ import (
 
 	"gusset/api"
 	"gusset/edge"
-	"gusset/span"
 	"gusset/weave"
 )
 
@@ -21,7 +20,8 @@ func Build(l []api.Point) (api.Mesh, api.Errno) {
 	fill(w, round)
 	w.Settle(-1)
 	for _, v := range scattered(inner) {
-		put(w, v)
+		t, k, _ := w.Seek(len(w.Tris)-1, l[v])
+		w.Put(v, t, k)
 	}
 	return api.Mesh{Points: w.Points, Tris: w.Tris}, api.OK
 }
@@ -52,35 +52,4 @@ func scattered(l []int) []int {
 		places[i] = l[place]
 	}
 	return places
-}
-
-// put puts the point v into a web that covers it, and settles that.
-func put(w *weave.Web, v int) {
-	t, k := found(w, v)
-	if k < 0 {
-		w.Split(t, v)
-	} else {
-		w.Cut(edge.Of(w.Tris[t], k), v)
-	}
-	w.Settle(v)
-}
-
-// found is the triangle where the point v lies, and the edge on which it does, -1 if on none. The way there leads from the last triangle over edges that have v beyond them; as no circle has a point within it, each triangle's circle is nearer to having v in it than the one ahead, and the way comes to an end.
-func found(w *weave.Web, v int) (int, int) {
-	t := len(w.Tris) - 1
-walk:
-	for {
-		on := -1
-		for k := range w.Tris[t] {
-			e := edge.Of(w.Tris[t], k)
-			switch span.Turn(w.Points[e[0]], w.Points[e[1]], w.Points[v]) {
-			case -1:
-				t, _ = w.Across(e)
-				continue walk
-			case 0:
-				on = k
-			}
-		}
-		return t, on
-	}
 }

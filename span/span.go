@@ -83,6 +83,26 @@ func (u Span) Dot(v Span) Number { return u.X.Times(v.X).Plus(u.Y.Times(v.Y)) }
 // Square is Dot of a way and itself.
 func (u Span) Square() Number { return u.Dot(u) }
 
+// Plus is a way, and another one behind it.
+func (u Span) Plus(v Span) Span {
+	return Span{u.X.Times(v.Unit).Plus(v.X.Times(u.Unit)), u.Y.Times(v.Unit).Plus(v.Y.Times(u.Unit)), u.Unit.Times(v.Unit)}
+}
+
+// ToCentre is the way from a to the centre of the circle through a, b and c, which may be asked; there is none, if they lie in a line. Times twice the ways to b and to c it is their squares: two equations.
+func ToCentre(a api.Point, b api.Point, c api.Point) (Span, bool) {
+	u, v := Of(a, b), Of(a, c)
+	area := u.Cross(v)
+	if area.Sign() == 0 {
+		return Span{}, false
+	}
+	squares := Span{X: u.Square().Times(v.Unit), Y: v.Square().Times(u.Unit)}
+	x, y := squares.Cross(Span{X: u.Y, Y: v.Y}), Span{X: u.X, Y: v.X}.Cross(squares)
+	if area.neg {
+		x.neg, y.neg = !x.neg, !y.neg
+	}
+	return Span{x, y, area.Plus(area).Size().Times(u.Unit).Times(v.Unit)}, true
+}
+
 // Turn is how three points turn, which may be asked: 1 to the left, -1 to the right, 0 if they lie in a line.
 func Turn(a api.Point, b api.Point, c api.Point) int { return Of(a, b).Cross(Of(a, c)).Sign() }
 

@@ -1,11 +1,13 @@
-// Package weave holds triangles that lie side by side, as hull and cdt make them: points are put into them, and their edges are turned until no circle has a corner across within it.
+// Package weave holds triangles that lie side by side, as hull, cdt and refine make them: points are put into them, and their edges are turned until no circle has a corner across within it.
 package weave
 
 import (
+	"maps"
 	"slices"
 
 	"gusset/api"
 	"gusset/edge"
+	"gusset/span"
 )
 
 // Web is points that may be asked, and triangles over them: all turn to the left, and no two have the same edge in the same way. Nothing is checked here: that what is handed in is right, those that call see to.
@@ -25,6 +27,11 @@ func Of(m api.Mesh) *Web {
 		w.Hold(edge.Edge{s.A, s.B})
 	}
 	return w
+}
+
+// Copy is the same web in memory of its own.
+func (w *Web) Copy() *Web {
+	return &Web{slices.Clone(w.Points), slices.Clone(w.Tris), maps.Clone(w.sides), maps.Clone(w.held), slices.Clone(w.doubts)}
 }
 
 // Lay adds a triangle.
@@ -75,19 +82,58 @@ func (w *Web) Split(t int, v int) {
 	w.Doubt(edge.Edge{a, b}, edge.Edge{b, c}, edge.Edge{c, a})
 }
 
-// Cut parts an edge, as it stands in a triangle, at the point v, which lies between its ends; and the triangles on both sides.
+// Cut parts an edge at the point v, which lies between its ends, and the triangles on both sides. If it was held, its parts are.
 func (w *Web) Cut(e edge.Edge, v int) {
 	w.cutSide(e, v)
-	if _, found := w.sides.Across(e); found {
-		w.cutSide(e.Back(), v)
+	w.cutSide(e.Back(), v)
+	if w.IsHeld(e) {
+		delete(w.held, e.Plain())
+		w.Hold(edge.Edge{e[0], v})
+		w.Hold(edge.Edge{v, e[1]})
 	}
 }
 
-// cutSide parts the triangle that an edge, as it goes, stands in.
+// cutSide parts the triangle that an edge, as it goes, stands in, if there is one.
 func (w *Web) cutSide(e edge.Edge, v int) {
-	side := w.sides[e]
+	side, found := w.sides[e]
+	if !found {
+		return
+	}
 	c := edge.Facing(w.Tris[side.Tri], side.K)
 	w.change(side.Tri, api.Tri{e[0], v, c})
 	w.Lay(api.Tri{v, e[1], c})
 	w.Doubt(edge.Edge{e[1], c}, edge.Edge{c, e[0]})
+}
+
+// Put puts the point v in where Seek has found it, in the triangle t, on its edge k or on none; and settles that.
+func (w *Web) Put(v int, t int, k int) {
+	if k < 0 {
+		w.Split(t, v)
+	} else {
+		w.Cut(edge.Of(w.Tris[t], k), v)
+	}
+	w.Settle(v)
+}
+
+// Seek is the triangle where a point lies, and the edge on which it does, -1 if on none. The way there leads from the triangle t over edges that have the point beyond them; if one of these is held, or has nothing across, that is told, and that it is in the way. As no circle has a corner across within it, each triangle's circle is nearer to having the point in it than the one ahead, and the way comes to an end.
+func (w *Web) Seek(t int, p api.Point) (int, int, bool) {
+walk:
+	for {
+		on := -1
+		for k := range w.Tris[t] {
+			e := edge.Of(w.Tris[t], k)
+			switch span.Turn(w.Points[e[0]], w.Points[e[1]], p) {
+			case -1:
+				next, found := w.Across(e)
+				if !found || w.IsHeld(e) {
+					return t, k, true
+				}
+				t = next
+				continue walk
+			case 0:
+				on = k
+			}
+		}
+		return t, on, false
+	}
 }
