@@ -87,6 +87,10 @@ func TestWays(t *testing.T) {
 		if quotient(u.Square(), u.Unit, u.Unit).Cmp(plus(times(ux, ux), times(uy, uy))) != 0 {
 			t.Errorf("case %d: Square", i)
 		}
+		both := u.Plus(v)
+		if both.Unit.Sign() != 1 || quotient(both.X, both.Unit).Cmp(plus(ux, vx)) != 0 || quotient(both.Y, both.Unit).Cmp(plus(uy, vy)) != 0 {
+			t.Errorf("case %d: Plus", i)
+		}
 	}
 }
 
@@ -129,6 +133,42 @@ func TestCircle(t *testing.T) {
 	}
 	if min(asked[0], asked[1], asked[2]) < 10 {
 		t.Errorf("outside, on and within: %v", asked)
+	}
+}
+
+// TestToCentre holds the way to a circle's centre against how far that is from all three points, whichever way these turn.
+func TestToCentre(t *testing.T) {
+	r := rand.New(rand.NewPCG(25, 26))
+	asked := [3]int{}
+	for i := range 300 {
+		l := make([]*big.Rat, 6)
+		for k := range l {
+			l[k] = fraction(r, 1+i%50, big.NewInt(1))
+			if i < 150 {
+				l[k] = big.NewRat(int64(r.IntN(5)), int64(1+i%3))
+			}
+		}
+		point := func(k int) api.Point { return api.Point{X: ratOf(l[2*k]), Y: ratOf(l[2*k+1])} }
+		turn := span.Turn(point(0), point(1), point(2))
+		asked[turn+1]++
+		way, found := span.ToCentre(point(0), point(1), point(2))
+		if found != (turn != 0) {
+			t.Fatalf("case %d: %v, but they turn by %d", i, found, turn)
+		}
+		if !found {
+			continue
+		}
+		x, y := plus(l[0], quotient(way.X, way.Unit)), plus(l[1], quotient(way.Y, way.Unit))
+		far := func(k int) *big.Rat {
+			u, v := minus(l[2*k], x), minus(l[2*k+1], y)
+			return plus(times(u, u), times(v, v))
+		}
+		if way.Unit.Sign() != 1 || far(0).Cmp(far(1)) != 0 || far(0).Cmp(far(2)) != 0 {
+			t.Errorf("case %d: %v, %v is no centre of %v", i, x, y, l)
+		}
+	}
+	if min(asked[0], asked[1], asked[2]) < 10 {
+		t.Errorf("to the right, in a line, to the left: %v", asked)
 	}
 }
 

@@ -153,6 +153,132 @@ func TestHeld(t *testing.T) {
 	}
 }
 
+// TestCutHeld holds that the parts of an edge that was held are held, whichever way it is told, in the midst and at the rim; and that those of another one are not.
+func TestCutHeld(t *testing.T) {
+	l := []api.Point{at(0, 0), at(8, 0), at(8, 8), at(0, 8), at(4, 4), at(4, 0)}
+	for _, held := range [][]api.Seg{nil, {{A: 0, B: 1}, {A: 0, B: 2}}, {{A: 2, B: 0}, {A: 1, B: 0}}} {
+		for _, back := range []bool{false, true} {
+			w := weave.Of(api.Mesh{Points: l, Tris: []api.Tri{{0, 1, 2}, {0, 2, 3}}, Segs: held})
+			for _, c := range []struct {
+				e edge.Edge
+				v int
+			}{{edge.Edge{0, 2}, 4}, {edge.Edge{0, 1}, 5}} {
+				if back {
+					c.e = c.e.Back()
+				}
+				w.Cut(c.e, c.v)
+				hold(t, w, rat.Of(128))
+				want := held != nil
+				if w.IsHeld(c.e) || w.IsHeld(edge.Edge{c.v, c.e[0]}) != want || w.IsHeld(edge.Edge{c.e[1], c.v}) != want {
+					t.Errorf("%v was cut: held: %v, %v, %v", c.e, w.IsHeld(c.e), w.IsHeld(edge.Edge{c.v, c.e[0]}), w.IsHeld(edge.Edge{c.e[1], c.v}))
+				}
+			}
+			if w.IsHeld(edge.Edge{1, 4}) || w.IsHeld(edge.Edge{3, 4}) {
+				t.Errorf("other edges are held")
+			}
+		}
+	}
+}
+
+// TestSeek looks for points from each triangle of a web with a wall in it: they are found where they lie, or it is told what is in the way.
+func TestSeek(t *testing.T) {
+	r := rand.New(rand.NewPCG(153, 154))
+	seen := [3]int{} // within, on an edge, not found
+	for range 40 {
+		w := square()
+		w.Split(0, 4)
+		w.Cut(edge.Edge{0, 1}, 5)
+		w.Cut(edge.Edge{0, 2}, 6)
+		w.Hold(edge.Edge{6, 4})
+		w.Hold(edge.Edge{4, 5})
+		w.Settle(-1)
+		for t0 := range w.Tris {
+			p := at(r.IntN(11)-1, r.IntN(11)-1)
+			i, k, blocked := w.Seek(t0, p)
+			c := [3]api.Point{w.Points[w.Tris[i][0]], w.Points[w.Tris[i][1]], w.Points[w.Tris[i][2]]}
+			where, _ := geom.Within(c[0], c[1], c[2], p)
+			switch {
+			case blocked:
+				e := edge.Of(w.Tris[i], k)
+				_, across := w.Across(e)
+				side, _ := geom.Orient(w.Points[e[0]], w.Points[e[1]], p)
+				if across && !w.IsHeld(e) || side != -1 {
+					t.Errorf("%v is in the way from %d to %v", e, t0, p)
+				}
+				seen[2]++
+			case k >= 0:
+				on, _ := geom.On(c[k], c[(k+1)%3], p)
+				if !on || where != 0 {
+					t.Errorf("%v is not on the edge %d of %v", p, k, c)
+				}
+				seen[1]++
+			default:
+				if where != 1 {
+					t.Errorf("%v is not within %v", p, c)
+				}
+				seen[0]++
+			}
+		}
+	}
+	if min(seen[0], seen[1], seen[2]) < 20 {
+		t.Errorf("within, on an edge, not found: %v", seen)
+	}
+}
+
+// TestWall looks for a point from the other side of an edge: if that is held, in whichever way it was told, it is in the way.
+func TestWall(t *testing.T) {
+	for _, segs := range [][]api.Seg{nil, {{A: 0, B: 1}}, {{A: 1, B: 0}}} {
+		w := slant(segs...)
+		i, k, blocked := w.Seek(0, api.Point{X: rat.Of(5), Y: api.Rat{Num: api.Int{Neg: true, Mag: "\x01"}, Den: "\x02"}})
+		if want := segs != nil; blocked != want || want && (i != 0 || k != 0) || !want && (i != 1 || k != -1) {
+			t.Errorf("%v: %d, %d, in the way: %v", segs, i, k, blocked)
+		}
+	}
+}
+
+// TestPut puts points in where they are found, all over a square: it stays legal.
+func TestPut(t *testing.T) {
+	r := rand.New(rand.NewPCG(155, 156))
+	for range 20 {
+		w := weave.Of(api.Mesh{Points: []api.Point{at(0, 0), at(8, 0), at(8, 8), at(0, 8)}, Tris: []api.Tri{{0, 1, 2}, {0, 2, 3}}, Segs: []api.Seg{{A: 0, B: 2}}})
+		for range 15 {
+			p := at(r.IntN(9), r.IntN(9))
+			if slices.Contains(w.Points, p) {
+				continue
+			}
+			i, k, blocked := w.Seek(r.IntN(len(w.Tris)), p)
+			if blocked {
+				continue
+			}
+			w.Points = append(w.Points, p)
+			w.Put(len(w.Points)-1, i, k)
+			hold(t, w, rat.Of(128))
+			if !w.Legal() {
+				t.Fatalf("not legal: %v", w.Tris)
+			}
+		}
+	}
+}
+
+// TestCopy holds that what is done to a copy is not done to the web, and the other way round.
+func TestCopy(t *testing.T) {
+	for _, turnCopy := range []bool{false, true} {
+		one := slant()
+		other := one.Copy()
+		if turnCopy {
+			one, other = other, one
+		}
+		one.Doubt(edge.Edge{0, 1})
+		one.Settle(-1)
+		one.Hold(edge.Edge{0, 2})
+		one.Points[0] = at(-1, 0)
+		if !one.Has(edge.Edge{2, 3}) || other.Has(edge.Edge{2, 3}) || other.IsHeld(edge.Edge{0, 2}) || other.Points[0] != at(0, 0) || other.Legal() {
+			t.Errorf("a web and its copy hang together")
+		}
+		hold(t, other, rat.Of(18))
+	}
+}
+
 // TestOwnMemory holds that a web does not change the mesh it came from.
 func TestOwnMemory(t *testing.T) {
 	m := api.Mesh{Points: []api.Point{at(0, 0), at(9, 0), at(5, 1), at(5, -1)}, Tris: []api.Tri{{0, 1, 2}, {1, 0, 3}}}
