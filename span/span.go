@@ -88,6 +88,9 @@ func (u Span) Plus(v Span) Span {
 	return Span{u.X.Times(v.Unit).Plus(v.X.Times(u.Unit)), u.Y.Times(v.Unit).Plus(v.Y.Times(u.Unit)), u.Unit.Times(v.Unit)}
 }
 
+// Turned is a way turned to the left, by a right angle.
+func (u Span) Turned() Span { return Span{Number{}.Minus(u.Y), u.X, u.Unit} }
+
 // ToCentre is the way from a to the centre of the circle through a, b and c, which may be asked; there is none, if they lie in a line. Times twice the ways to b and to c it is their squares: two equations.
 func ToCentre(a api.Point, b api.Point, c api.Point) (Span, bool) {
 	u, v := Of(a, b), Of(a, c)

@@ -87,6 +87,10 @@ func TestWays(t *testing.T) {
 		if quotient(u.Square(), u.Unit, u.Unit).Cmp(plus(times(ux, ux), times(uy, uy))) != 0 {
 			t.Errorf("case %d: Square", i)
 		}
+		left := u.Turned()
+		if quotient(left.X, left.Unit).Cmp(minus(new(big.Rat), uy)) != 0 || quotient(left.Y, left.Unit).Cmp(ux) != 0 || left.Dot(u).Sign() != 0 || left.Unit.Sign() != 1 {
+			t.Errorf("case %d: Turned", i)
+		}
 		both := u.Plus(v)
 		if both.Unit.Sign() != 1 || quotient(both.X, both.Unit).Cmp(plus(ux, vx)) != 0 || quotient(both.Y, both.Unit).Cmp(plus(uy, vy)) != 0 {
 			t.Errorf("case %d: Plus", i)
