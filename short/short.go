@@ -35,6 +35,14 @@ func Fit(a api.Rat) api.Rat {
 	return a
 }
 
+// Whole is the whole number itself, if it is short enough; else it gives up.
+func Whole(n api.Int) api.Int {
+	if len(n.Mag) > maxBytes {
+		panic(givenUp{})
+	}
+	return n
+}
+
 // kept is what package rat has made, if it could, and if that is short enough.
 func kept(a api.Rat, e api.Errno) api.Rat {
 	if e != api.OK {
@@ -51,6 +59,9 @@ func Sub(a api.Rat, b api.Rat) api.Rat { return kept(rat.Sub(a, b)) }
 
 // Mul is the product of two numbers that may be.
 func Mul(a api.Rat, b api.Rat) api.Rat { return kept(rat.Mul(a, b)) }
+
+// Div is a divided by b, which may be, and is not 0.
+func Div(a api.Rat, b api.Rat) api.Rat { return kept(rat.Div(a, b)) }
 
 // Sum is the sum of what each thing of a list counts, 0 of none. It is made by halves, so that long numbers come together late and seldom.
 func Sum[T any](l []T, count func(T) api.Rat) api.Rat {
