@@ -43,13 +43,16 @@ func Whole(n api.Int) api.Int {
 	return n
 }
 
-// kept is what package rat has made, if it could, and if that is short enough.
-func kept(a api.Rat, e api.Errno) api.Rat {
+// Told is what a lower layer has told of numbers, if none of them was too long; else it gives up. (No other error comes of what may be asked.)
+func Told[T any](out T, e api.Errno) T {
 	if e != api.OK {
 		panic(givenUp{})
 	}
-	return Fit(a)
+	return out
 }
+
+// kept is what package rat has made, if it could, and if that is short enough.
+func kept(a api.Rat, e api.Errno) api.Rat { return Fit(Told(a, e)) }
 
 // Add is the sum of two numbers that may be.
 func Add(a api.Rat, b api.Rat) api.Rat { return kept(rat.Add(a, b)) }

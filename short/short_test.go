@@ -28,6 +28,12 @@ func part(n int) api.Rat {
 	return api.Rat{Num: whole.Of(1), Den: api.Nat(strings.Repeat("\xff", n))}
 }
 
+// product is what the library makes of two whole numbers above 0.
+func product(a, b api.Rat) api.Rat {
+	x := new(big.Int).Mul(new(big.Int).SetBytes([]byte(a.Num.Mag)), new(big.Int).SetBytes([]byte(b.Num.Mag)))
+	return ratOf(new(big.Rat).SetInt(x))
+}
+
 // asked is what Answer tells of a number that is reckoned.
 func asked(work func() api.Rat) (api.Rat, api.Errno) { return short.Answer(work) }
 
@@ -54,6 +60,9 @@ func TestLengths(t *testing.T) {
 		{func() api.Rat { return api.Rat{Num: short.Whole(number(8000).Num), Den: "\x01"} }, number(8000), api.OK},
 		{func() api.Rat { return api.Rat{Num: short.Whole(number(8001).Num), Den: "\x01"} }, api.Rat{}, api.ErrLimit},
 		{func() api.Rat { return short.Add(number(8001), rat.Of(0)) }, api.Rat{}, api.ErrLimit},
+		{func() api.Rat { return short.Told(rat.Sub(number(8000), rat.Of(0))) }, number(8000), api.OK},
+		{func() api.Rat { return short.Told(rat.Div(number(8000), part(8000))) }, product(number(8000), number(8000)), api.OK},
+		{func() api.Rat { return short.Told(rat.Sub(number(8001), rat.Of(0))) }, api.Rat{}, api.ErrLimit},
 		{func() api.Rat { return short.Sub(rat.Of(0), part(8001)) }, api.Rat{}, api.ErrLimit},
 		{func() api.Rat { return short.Mul(number(8001), part(8001)) }, api.Rat{}, api.ErrLimit},
 	} {
