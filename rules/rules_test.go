@@ -27,10 +27,10 @@ var library = []string{
 	"strings", "sync", "sync/atomic", "unicode", "unicode/utf8",
 }
 
-// layers are the packages from the lowest to the highest. (Packages long, short, lowest, span, edge and weave are none of the document's, but stand where they are told.)
+// layers are the packages from the lowest to the highest. (Packages long, short, lowest, span, edge, weave and surface are none of the document's, but stand where they are told.)
 var layers = []string{
 	"api", "limb", "whole", "long", "rat", "short", "lowest", "vec", "span", "geom", "cons", "poly", "pslg", "plan", "well", "edge", "mesh", "locate", "weave",
-	"hull", "cdt", "carve", "refine", "element", "system", "ldl", "cg", "estimate", "adapt", "emit", "run",
+	"hull", "cdt", "carve", "refine", "element", "system", "ldl", "cg", "surface", "estimate", "adapt", "emit", "run",
 }
 
 // sources are the program's Go files, without tests.

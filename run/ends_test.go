@@ -231,7 +231,7 @@ func TestOrder(t *testing.T) {
 	}
 }
 
-// TestLongNumbers runs plans whose numbers have as many digits as a text lets them have: it ends, and tells nothing that is wrong. Of a square that is too great for adapt.Sizes that error is told, where sizes are asked for.
+// TestLongNumbers runs plans whose numbers have as many digits as a text lets them have: it ends, and tells nothing that is wrong.
 func TestLongNumbers(t *testing.T) {
 	big60, under := strings.Repeat("9", 60), "/"+strings.Repeat("7", 59)+"1"
 	for i, text := range []string{
@@ -245,8 +245,7 @@ func TestLongNumbers(t *testing.T) {
 		for rounds := range 3 {
 			p := params(40, rounds)
 			p.Floor2 = long(50)
-			_, e := hold(t, text, p, nil)
-			if rounds == 0 && i < 2 && e != api.OK || rounds > 0 && i == 0 && e != api.ErrLimit {
+			if _, e := hold(t, text, p, nil); i < 2 && e != api.OK {
 				t.Errorf("P24.3: case %d, %d rounds: error %d", i, rounds, e)
 			}
 		}

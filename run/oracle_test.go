@@ -7,6 +7,7 @@ import (
 	"testing"
 
 	"gusset/api"
+	"gusset/poly"
 	"gusset/rat"
 )
 
@@ -289,6 +290,61 @@ func holdValues(t *testing.T, p api.Plan, m api.Mesh, values []api.Rat) {
 			t.Fatalf("P4: point %d, held: %v, leaves %v", v, held[v], x)
 		}
 	}
+}
+
+// unitOf is the least whole number of which all denominators are divisors.
+func unitOf(l []api.Rat) *big.Rat {
+	unit := big.NewInt(1)
+	for _, a := range l {
+		den := bigOf(a).Denom()
+		unit.Mul(unit, new(big.Int).Quo(den, new(big.Int).GCD(nil, nil, unit, den)))
+	}
+	return new(big.Rat).SetInt(unit)
+}
+
+// wantEach is what chapter 21 says of each triangle, and the sum of all. Values are made whole on the way, as long quotients take their time.
+func wantEach(f api.Poly, m api.Mesh, values []api.Rat) ([]api.Rat, api.Rat) {
+	l, held, slopes := places(m.Points), walls(m), map[edge]place{} // of a triangle, by each of its edges
+	unit := unitOf(values)
+	for _, t := range m.Tris {
+		corners, u := [3]place{}, [3]*big.Rat{}
+		for k, v := range t {
+			corners[k], u[k] = l[v], times(unit, bigOf(values[v]))
+		}
+		way := slope(corners, u)
+		double := area(corners[0], corners[1], corners[2])
+		for k := range t {
+			slopes[edge{t[k], t[(k+1)%3]}] = place{over(way.x, double), over(way.y, double)}
+		}
+	}
+	out, sum := []api.Rat(nil), new(big.Rat)
+	for _, t := range m.Tris {
+		share := new(big.Rat)
+		for k := range t {
+			e := edge{t[k], t[(k+1)%3]}
+			along, part := l[e[1]].less(l[e[0]]), small(1, 1)
+			change, across := slopes[e], slopes[e.back()]
+			if across.x != nil {
+				change, part = change.less(across), small(1, 2)
+			}
+			if !held[e] {
+				share = plus(share, times(part, times(along.cross(change), along.cross(change))))
+			}
+		}
+		square, _ := poly.Square(f, m.Points[t[0]], m.Points[t[1]], m.Points[t[2]])
+		share = plus(over(share, times(unit, unit)), times(bigOf(square), times(small(1, 2), area(l[t[0]], l[t[1]], l[t[2]]))))
+		out, sum = append(out, ratOf(share)), plus(sum, share)
+	}
+	return out, ratOf(sum)
+}
+
+// longest is how many bytes the longest of numbers has.
+func longest(l ...api.Rat) int {
+	out := 0
+	for _, a := range l {
+		out = max(out, len(a.Num.Mag), len(a.Den))
+	}
+	return out
 }
 
 // shortest is the shortest edge, squared.

@@ -50,13 +50,27 @@ func hold(t *testing.T, text string, p api.Params, picks []int) (api.Result, api
 // next are the sizes that a result asks for.
 func next(t *testing.T, f api.Poly, p api.Params, r api.Result) []api.Size {
 	t.Helper()
-	l, e := estimate.Each(r.Mesh, r.Values, f)
-	must(t, e)
+	l, _ := wrong(t, f, r)
 	marked, e := adapt.Mark(l, p.Theta)
 	must(t, e)
 	sizes, e := adapt.Sizes(r.Mesh, marked, p.Floor2)
-	must(t, e)
+	if e != api.ErrLimit { // then there are none
+		must(t, e)
+	}
 	return sizes
+}
+
+// wrong is what package estimate tells of a result's values, triangle by triangle and in all; or what chapter 21 says of them, if they are too long to be asked about.
+func wrong(t *testing.T, f api.Poly, r api.Result) ([]api.Rat, api.Rat) {
+	t.Helper()
+	if longest(r.Values...) > 3000 {
+		return wantEach(f, r.Mesh, r.Values)
+	}
+	l, e := estimate.Each(r.Mesh, r.Values, f)
+	must(t, e)
+	eta2, e := estimate.Total(r.Mesh, r.Values, f)
+	must(t, e)
+	return l, eta2
 }
 
 // holdStatus holds how it ended against what comes with fewer rounds: those are the meshes that it went through, and each asks for sizes that all later ones keep to.
@@ -64,8 +78,8 @@ func holdStatus(t *testing.T, text string, p api.Params, picks []int, r api.Resu
 	t.Helper()
 	plan, _, e := run.Domain(text)
 	must(t, e)
-	if eta2, e := estimate.Total(r.Mesh, r.Values, plan.F); r.Eta2 != eta2 || e != api.OK {
-		t.Fatalf("P5: the estimate is %v, error %d, not %v", eta2, e, r.Eta2)
+	if _, eta2 := wrong(t, plan.F, r); r.Eta2 != eta2 {
+		t.Fatalf("P5: the estimate is %v, not %v", eta2, r.Eta2)
 	}
 	if r.Rounds < 0 || r.Rounds > p.Rounds {
 		t.Fatalf("P24.3: %d rounds of %d", r.Rounds, p.Rounds)

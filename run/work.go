@@ -3,10 +3,10 @@ package run
 import (
 	"gusset/adapt"
 	"gusset/api"
-	"gusset/estimate"
 	"gusset/ldl"
 	"gusset/rat"
 	"gusset/refine"
+	"gusset/surface"
 	"gusset/system"
 )
 
@@ -70,9 +70,9 @@ func (w *work) solve() (e api.Errno) {
 	return e
 }
 
-// judge tells how wrong the values may be. It ends, if that is little enough, or no round is left.
+// judge tells how wrong the values may be. It ends, if that is little enough, or no round is left. Package surface is asked in place of estimate, which tells the same, but refuses values of more than 3000 bytes: a run may give up only where a number has more than 8000.
 func (w *work) judge() api.Errno {
-	eta2, e := estimate.Total(w.result.Mesh, w.result.Values, w.plan.F)
+	eta2, e := surface.Total(w.result.Mesh, w.result.Values, w.plan.F)
 	if e != api.OK {
 		return e
 	}
@@ -90,12 +90,12 @@ func (w *work) judge() api.Errno {
 	return api.OK
 }
 
-// ask adds the sizes for one more round, unless it has ended. It ends, if there are none, or there would be too many.
+// ask adds the sizes for one more round, unless it has ended. It ends, if there are none, or there would be too many. Where package adapt has an error, there are none: here it comes only of triangles that are too great or too small for it, not of numbers on the way that are too long.
 func (w *work) ask() api.Errno {
 	if w.result.Status != 0 {
 		return api.OK
 	}
-	shares, e := estimate.Each(w.result.Mesh, w.result.Values, w.plan.F)
+	shares, e := surface.Each(w.result.Mesh, w.result.Values, w.plan.F)
 	if e != api.OK {
 		return e
 	}
@@ -103,10 +103,7 @@ func (w *work) ask() api.Errno {
 	if e != api.OK {
 		return e
 	}
-	more, e := adapt.Sizes(w.result.Mesh, marked, w.params.Floor2)
-	if e != api.OK {
-		return e
-	}
+	more, _ := adapt.Sizes(w.result.Mesh, marked, w.params.Floor2)
 	if len(more) == 0 || len(w.sizes)+len(more) > maxSizes {
 		w.result.Status = api.Floor
 		return api.OK

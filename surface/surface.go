@@ -1,9 +1,9 @@
-package estimate
+// Package surface has functions that are linear on each triangle of a mesh, and tells how wrong they may be: what layer 21, estimate, tells, but of values of any length. Where a number on the way is too long, one gives up as package short does.
+package surface
 
 import (
 	"gusset/api"
 	"gusset/edge"
-	"gusset/element"
 	"gusset/long"
 	"gusset/lowest"
 	"gusset/rat"
@@ -16,6 +16,26 @@ const (
 	one api.Nat = "\x01"
 	two api.Nat = "\x02"
 )
+
+// Each tells of each triangle how wrong values may be there, squared; Total is the sum; and Energy2 is the integral of the slope's square. The mesh may be, and the values, one for each of its points, and the load; ErrLimit is told if a number on the way is too long, and nothing else.
+func Each(m api.Mesh, u []api.Rat, f api.Poly) ([]api.Rat, api.Errno) {
+	return answer(m, u, func(s surface) []api.Rat { return s.each(f) })
+}
+
+func Total(m api.Mesh, u []api.Rat, f api.Poly) (api.Rat, api.Errno) {
+	return answer(m, u, func(s surface) api.Rat { return s.total(f) })
+}
+
+func Energy2(m api.Mesh, u []api.Rat) (api.Rat, api.Errno) { return answer(m, u, surface.energy2) }
+
+// answer is what work makes of a surface; or ErrLimit, if a number gets too long both with whole numbers and with those that are given: values that have little in common may be short, but long as whole numbers.
+func answer[T any](m api.Mesh, u []api.Rat, work func(s surface) T) (T, api.Errno) {
+	n := netOf(m)
+	if out, e := short.Answer(func() T { return work(surfaceOf(n, wholeValues(u))) }); e == api.OK {
+		return out, e
+	}
+	return short.Answer(func() T { return work(surfaceOf(n, values{u, rat.Of(1)})) })
+}
 
 // values are those at the points of a net: numbers, and the square of what these are to be multiplied by.
 type values struct {
@@ -72,9 +92,13 @@ func (s surface) energy2() api.Rat {
 // slope is that of triangle i. One that is not asked for may be as long as it will.
 func (s surface) slope(i int) api.Point {
 	if s.slopes[i] == (api.Point{}) {
-		a, b, c := s.corners(i)
-		t := s.Tris[i]
-		s.slopes[i] = short.Told(element.Slope(a, b, c, [3]api.Rat{s.numbers[t[0]], s.numbers[t[1]], s.numbers[t[2]]}))
+		out := api.Point{X: rat.Of(0), Y: rat.Of(0)}
+		for k, v := range s.Tris[i] {
+			hat := s.hat(i, k)
+			out.X = short.Add(out.X, short.Mul(s.numbers[v], hat.X))
+			out.Y = short.Add(out.Y, short.Mul(s.numbers[v], hat.Y))
+		}
+		s.slopes[i] = out
 	}
 	return s.slopes[i]
 }

@@ -1,10 +1,12 @@
-package estimate
+package surface
 
 import (
 	"gusset/api"
 	"gusset/cons"
 	"gusset/edge"
+	"gusset/element"
 	"gusset/poly"
+	"gusset/rat"
 	"gusset/short"
 	"gusset/vec"
 )
@@ -42,6 +44,14 @@ func (n net) corners(i int) (api.Point, api.Point, api.Point) {
 
 // area is that of triangle i.
 func (n net) area(i int) api.Rat { return half(short.Told(cons.Area2(n.corners(i)))) }
+
+// hat is the slope on triangle i of the function that is 1 at its corner k, and 0 at the others. Slopes are put together of these, since package element takes no values of more than 3000 bytes.
+func (n net) hat(i int, k int) api.Point {
+	u := [3]api.Rat{rat.Of(0), rat.Of(0), rat.Of(0)}
+	u[k] = rat.Of(1)
+	a, b, c := n.corners(i)
+	return short.Told(element.Slope(a, b, c, u))
+}
 
 // loads is of each triangle its area times the integral of the load's square.
 func (n net) loads(f api.Poly) []api.Rat {
